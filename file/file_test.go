@@ -123,10 +123,7 @@ func TestP20_1WriteWrong(t *testing.T) {
 	ok := func() (api.Table, api.Conf) {
 		return someTable(rand.New(rand.NewSource(2)), 3, 8), api.Conf{GroupRows: 3, PageRows: 2, Encs: []int{api.EncBest, api.EncPlain, api.EncDict}}
 	}
-	long := text(strings.Repeat("x", 65536))
-	texts := func(n int) api.Table {
-		return api.Table{Cols: []api.Col{{Name: "a", Type: api.TypeText}}, Rows: n, Data: [][]api.Cell{slices.Repeat([]api.Cell{long}, n)}}
-	}
+	long := func(n int) api.Table { return texts(slices.Repeat([]string{strings.Repeat("x", 65536)}, n)...) }
 	for name, x := range map[string]struct {
 		change func(t *api.Table, c *api.Conf)
 		want   api.Errno
@@ -142,19 +139,19 @@ func TestP20_1WriteWrong(t *testing.T) {
 		"an encoding less":          {func(t *api.Table, c *api.Conf) { c.Encs = c.Encs[:2] }, api.ErrArg},
 		"no encoding":               {func(t *api.Table, c *api.Conf) { c.Encs[0] = 5 }, api.ErrType},
 		"too much to share": {func(t *api.Table, c *api.Conf) {
-			*t, c.Encs = texts(257), []int{api.EncFront}
+			*t, c.Encs = long(257), []int{api.EncFront}
 			c.GroupRows, c.PageRows = 257, 257
 		}, api.ErrFull},
 		"much to share, in two pages": {func(t *api.Table, c *api.Conf) {
-			*t, c.Encs = texts(257), []int{api.EncFront}
+			*t, c.Encs = long(257), []int{api.EncFront}
 			c.GroupRows, c.PageRows = 257, 256
 		}, api.OK},
 		"a page too great": {func(t *api.Table, c *api.Conf) {
-			*t, c.Encs = texts(4096), []int{api.EncPlain}
+			*t, c.Encs = long(4096), []int{api.EncPlain}
 			c.GroupRows, c.PageRows = 4096, 4096
 		}, api.ErrFull},
 		"as many texts, by places": {func(t *api.Table, c *api.Conf) {
-			*t, c.Encs = texts(4096), []int{api.EncDict}
+			*t, c.Encs = long(4096), []int{api.EncDict}
 			c.GroupRows, c.PageRows = 4096, 4096
 		}, api.OK},
 	} {
@@ -167,27 +164,47 @@ func TestP20_1WriteWrong(t *testing.T) {
 	}
 }
 
-// A file of pages of more than 2^30 bytes is refused, and so is one whose footer alone has as many.
+// texts makes a table of one column of such texts.
+func texts(l ...string) api.Table {
+	t := api.Table{Cols: []api.Col{{Name: "a", Type: api.TypeText}}, Rows: len(l), Data: [][]api.Cell{nil}}
+	for _, s := range l {
+		t.Data[0] = append(t.Data[0], text(s))
+	}
+	return t
+}
+
+// A page of 2^28 bytes is one, and four of these are as many as there may be; a byte more is refused, and so is a footer of more than 2^30.
 func TestP20_1WriteFull(t *testing.T) {
 	if testing.Short() {
-		t.Skip("makes a file of a gigabyte")
+		t.Skip("makes files of a gigabyte")
 	}
-	long := text(strings.Repeat("x", 65536))
-	texts := func(n int) api.Table {
-		return api.Table{Cols: []api.Col{{Name: "a", Type: api.TypeText}}, Rows: n, Data: [][]api.Cell{slices.Repeat([]api.Cell{long}, n)}}
-	}
-	// Pages of 4000 texts, plain: four of them are below the limit, and a few texts more are beyond it.
-	conf := api.Conf{GroupRows: 65536, PageRows: 4000, Encs: []int{api.EncPlain}}
-	if b, err := Write(texts(16000), conf); err != api.OK || len(b) > 1<<30 {
-		t.Error("below the limit", len(b), err)
-	}
-	if b, err := Write(texts(16384), conf); err != api.ErrFull || len(b) != 0 {
-		t.Error("beyond the limit", len(b), err)
+	// A page of these has 3 bytes, and of each text 3 more than itself.
+	long := strings.Repeat("x", 65536)
+	full := append(slices.Repeat([]string{long[:65533]}, 4095), long[:65530])
+	more := append(slices.Repeat([]string{long[:65533]}, 4095), long[:65531])
+	conf := api.Conf{GroupRows: 65536, PageRows: 4096, Encs: []int{api.EncPlain}}
+	for name, x := range map[string]struct {
+		l    []string
+		want api.Errno
+	}{
+		"a full page": {full, api.OK}, "a page too great": {more, api.ErrFull},
+		"a full file": {slices.Repeat(full, 4), api.OK}, "a file too great": {append(slices.Repeat(full, 4), ""), api.ErrFull},
+	} {
+		b, err := Write(texts(x.l...), conf)
+		if err != x.want || err != api.OK && len(b) != 0 {
+			t.Error(name, len(b), err)
+		}
+		if err == api.OK {
+			f, _, is := Open(b)
+			if p := f.Groups[0].Chunks[0]; is != api.OK || p[len(p)-1].Size != 1<<28 {
+				t.Error(name, is, "the page is not full")
+			}
+		}
 	}
 	// A page of one text tells it once, its stat twice: pages of half of the limit have a footer beyond it.
 	conf.PageRows = 1
-	if b, err := Write(texts(8192), conf); err != api.ErrFull || len(b) != 0 {
-		t.Error("a footer beyond the limit", len(b), err)
+	if b, err := Write(texts(slices.Repeat([]string{long}, 8192)...), conf); err != api.ErrFull || len(b) != 0 {
+		t.Error("a footer too great", len(b), err)
 	}
 }
 
@@ -259,7 +276,7 @@ func TestP20_2PageOfOthers(t *testing.T) {
 		x, _, _ := laid(a, someConf(r, a))
 		_, f, _ := laid(b, someConf(r, b))
 		for n := range x {
-			if got, ok := Page(x[:n], f, 0, 1, 0); ok && !bytes.Contains(x, got) {
+			if got, ok := Page(x[:n:n], f, 0, 1, 0); ok && !bytes.Contains(x, got) {
 				t.Fatal(got)
 			}
 		}

@@ -109,8 +109,11 @@ func TestP19_1RightWrong(t *testing.T) {
 		"a chunk more":           func(f *api.Footer) { f.Groups[1].Chunks = append(f.Groups[1].Chunks, nil) },
 		"a chunk without pages":  func(f *api.Footer) { f.Groups[1].Chunks[1] = nil },
 		"a page of no rows":      func(f *api.Footer) { page(f, 0, 0, 0).Rows, page(f, 0, 0, 1).Rows = 3, 0 },
-		"a page less than none":  func(f *api.Footer) { page(f, 0, 0, 0).Rows, page(f, 0, 0, 1).Rows = 4, -1 },
-		"a page's rows":          func(f *api.Footer) { page(f, 0, 0, 0).Rows = 1 },
+		"a page of nothing": func(f *api.Footer) {
+			f.Groups[0].Chunks[0] = append(f.Groups[0].Chunks[0], api.PageInfo{Size: 1})
+		},
+		"a page less than none": func(f *api.Footer) { page(f, 0, 0, 0).Rows, page(f, 0, 0, 1).Rows = 4, -1 },
+		"a page's rows":         func(f *api.Footer) { page(f, 0, 0, 0).Rows = 1 },
 		"a page more": func(f *api.Footer) {
 			f.Groups[0].Chunks[0] = append(f.Groups[0].Chunks[0], api.PageInfo{Size: 1, Rows: 1, Stat: has(0, 1, 1)})
 		},

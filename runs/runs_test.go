@@ -132,7 +132,7 @@ func TestP10_3DecodeWrong(t *testing.T) {
 		n    int
 	}{
 		{"too few", []byte{8, 7, 3, 1, 1}, 4}, {"too many", []byte{8, 7, 3, 1, 1}, 6}, {"none", nil, 1}, {"below none", nil, -1}, {"far below", nil, api.MinInt}, {"far too many", nil, api.MaxInt},
-		{"beyond the limit", []byte{0x82, 0x80, 8, 0}, 65537},
+		{"beyond the limit", []byte{0x82, 0x80, 8, 0}, 65537}, {"more than there is room for", []byte{0x80, 0x80, 0x80, 0x80, 0x80, 0x80, 0x80, 0x40, 0}, 1 << 54},
 		{"a short run", []byte{6, 7}, 3}, {"an empty run", []byte{0, 7}, 0}, {"an empty rest", []byte{1, 0}, 0}, {"an empty rest, wide", []byte{1, 1}, 0},
 		{"a run as a rest", []byte{9, 0}, 4}, {"a run within a rest", []byte{11, 1, 1}, 5}, {"two runs of one number", []byte{8, 7, 8, 7}, 8}, {"a rest ahead of its like", []byte{3, 3, 7, 8, 7}, 5}, {"a rest behind its like", []byte{8, 7, 3, 3, 7}, 5},
 		{"two rests", []byte{3, 1, 1, 3, 0}, 2}, {"too wide", []byte{3, 2, 1}, 1}, {"far too wide", []byte{3, 65, 0, 0, 0, 0, 0, 0, 0, 0, 0}, 1}, {"wide beyond all", []byte{3, 255}, 1},

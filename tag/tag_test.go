@@ -184,15 +184,15 @@ func TestP2_4ExtractNone(t *testing.T) {
 // By a sum that many frames share, what is extracted is what two plain loops find first.
 func TestP2_4ExtractFirst(t *testing.T) {
 	weak := func(b []byte) api.Digest { return api.Digest{b[0] & 3} }
-	plain := func(a, b [][]byte) (int, int, bool) {
-		for x := range a {
-			for y := range b {
-				if !bytes.Equal(a[x], b[y]) && weak(a[x]) == weak(b[y]) {
+	plain := func(a, b [][]byte) ([]byte, []byte, bool) {
+		for _, x := range a {
+			for _, y := range b {
+				if !bytes.Equal(x, y) && weak(x) == weak(y) {
 					return x, y, true
 				}
 			}
 		}
-		return 0, 0, false
+		return nil, nil, false
 	}
 	r := rand.New(rand.NewSource(4))
 	found := 0
@@ -205,11 +205,15 @@ func TestP2_4ExtractFirst(t *testing.T) {
 		}
 		x, y, ok := extract(a, b, weak)
 		wx, wy, want := plain(a, b)
-		if x != wx || y != wy || ok != want {
+		if !bytes.Equal(x, wx) || !bytes.Equal(y, wy) || ok != want {
 			t.Fatal(a, b, x, y, ok, wx, wy, want)
 		}
 		if ok {
 			found++
+			x[0], y[0] = x[0]+100, y[0]+100
+			if wx[0] > 6 || wy[0] > 6 {
+				t.Fatal("what is extracted shares with a log")
+			}
 		}
 	}
 	if found < 100 || found > 2900 {
